@@ -1,0 +1,1 @@
+"""Limb: one outline that several hands keep."""
