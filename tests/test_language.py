@@ -78,6 +78,16 @@ def bound_names(nodes):
     return names + [node.id for node in nodes if isinstance(node, ast.Name) and isinstance(node.ctx, ast.Store)]
 
 
+def methods_of_classes():
+    classes = [node for path in package_files() for node in walk_of(path) if isinstance(node, ast.ClassDef)]
+    return [part.name for node in classes for part in node.body if isinstance(part, ast.FunctionDef)]
+
+
+def stored_values():
+    nodes = [node for path in package_files() for node in walk_of(path)]
+    return [node.attr for node in nodes if isinstance(node, ast.Attribute) and isinstance(node.ctx, ast.Store)]
+
+
 def on_each_file(check):
     def run(self):
         for path in package_files():
@@ -191,6 +201,32 @@ class TestLanguage(unittest.TestCase):
                 self.assertNotIn(node.attr, UNUSED)
             if isinstance(node, ast.Call) and isinstance(node.func, ast.Attribute):
                 self.assertIn(node.func.attr, known)
+
+    @on_each_file
+    def test_names_of_imports_and_classes_have_one_meaning(self, path):
+        nodes = walk_of(path)
+        taken = [name.name for node in imports_of(path) for name in node.names]
+        taken += [node.name for node in nodes if isinstance(node, ast.ClassDef)]
+        for name in bound_names(nodes):
+            self.assertNotIn(name, taken)
+
+    def test_no_name_is_a_method_and_a_value(self):
+        self.assertEqual([name for name in stored_values() if name in methods_of_classes()], [])
+
+    def test_values_have_free_names(self):
+        pythons_own = [name for kind in (str, int, list, dict, set, bytes, tuple) for name in dir(kind)]
+        for name in stored_values():
+            self.assertNotIn(name, pythons_own + ["args"])
+
+    @on_each_file
+    def test_names_at_the_top_are_only_read(self, path):
+        body = ast.parse(path.read_text(encoding="ascii")).body
+        kept = [target.id for node in body if isinstance(node, ast.Assign) for target in node.targets]
+        for node in walk_of(path):
+            if isinstance(node, (ast.Attribute, ast.Subscript)) and isinstance(node.value, ast.Name):
+                if node.value.id in kept:
+                    self.assertIsInstance(node.ctx, ast.Load)
+                    self.assertIn(getattr(node, "attr", "get"), ["get", "items", "keys", "values"])
 
     @on_each_file
     def test_is_stands_beside_none_and_truths(self, path):

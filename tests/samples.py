@@ -1,0 +1,116 @@
+"""What several tests hand in: odd things, deeds of each word, and deeds by chance from a told seed."""
+
+import random
+
+SIXTY = 10 ** 60 - 1
+
+ODD_THINGS = [
+    True, False, None, 0, 1, -1, "", "0", "none", "put", [], [1], (), (1,), (0, 1), {}, {1: 1}, 1.0, float("nan"),
+    1j, b"none", {1}, frozenset(), object(), int, len, range(2), ValueError("1"),
+]
+
+# Each of the thirteen words, of one hand: the deed's name is (0, 5).
+ONE_HAND = [
+    (0, (5,), what) for what in [
+        ("put", None, (0,), "ink"),
+        ("put", (0, 4), (3, -1), "two words"),
+        ("move", (0, 1), None, (0,)),
+        ("move", (0, 1), (0, 2), (-7,)),
+        ("write", (0, 1), "paper"),
+        ("mark", (0, 1), True),
+        ("mark", (0, 1), False),
+        ("due", (0, 1), 0),
+        ("due", (0, 1), None),
+        ("fold", (0, 1), True),
+        ("fold", (0, 1), False),
+        ("part", (0, 1), 2, (1,)),
+        ("join", (0, 1), (0, 2)),
+        ("take", (0, 1)),
+        ("back", (0, 1)),
+        ("off", 1),
+        ("on", 4),
+        ("none",),
+    ]
+]
+
+# Each of the thirteen words, of eight hands: the deed's name is (3, 5).
+EIGHT_CLOCK = (2, 0, 1, 5, 0, 0, 0, 9)
+EIGHT_HANDS = [
+    (3, EIGHT_CLOCK, what) for what in [
+        ("put", None, (0,), "ink"),
+        ("put", (7, 9), (3, -1), "two words"),
+        ("move", (0, 2), None, (0,)),
+        ("move", (7, 1), (2, 1), (-7,)),
+        ("write", (3, 4), "paper"),
+        ("mark", (0, 1), True),
+        ("mark", (0, 1), False),
+        ("due", (0, 1), 7),
+        ("due", (0, 1), None),
+        ("fold", (7, 9), True),
+        ("fold", (7, 9), False),
+        ("part", (2, 1), 0, (1,)),
+        ("join", (0, 1), (7, 2)),
+        ("take", (0, 1)),
+        ("back", (3, 4)),
+        ("off", 1),
+        ("on", 4),
+        ("none",),
+    ]
+]
+
+
+def replaced(values, at, value):
+    return values[:at] + (value,) + values[at + 1:]
+
+
+def none_deed(hand, clock):
+    return (hand, clock, ("none",))
+
+
+def some_what(chance, hand, clock):
+    """What a hand might do that knows of all that the clock tells (the deed itself with it)."""
+    known = [
+        (other, number) for other, count in enumerate(clock) for number in range(1, count + 1)
+        if (other, number) != (hand, clock[hand])
+    ]
+    place = tuple(chance.randint(-2, 2) for each in range(chance.randint(1, 2)))
+    text = "".join(chance.choice("ab ") for each in range(chance.randint(0, 4)))
+    if not known or chance.random() < 0.3:
+        return ("put", chance.choice(known + [None]), place, text)
+    item, other = chance.choice(known), chance.choice(known + [None])
+    whats = [
+        ("move", item, other, place), ("write", item, text), ("mark", item, chance.random() < 0.5),
+        ("due", item, chance.choice([None] + list(range(len(clock))))), ("fold", item, chance.random() < 0.5),
+        ("part", item, chance.randint(0, 3), place), ("join", item, chance.choice(known)), ("take", item),
+        ("back", item), ("none",),
+    ]
+    if clock[hand] > 1:
+        number = chance.randint(1, clock[hand] - 1)
+        whats += [("off", number), ("on", number), ("off", clock[hand] - 1)]
+    return chance.choice(whats)
+
+
+def some_deeds(seed, hands, count):
+    """Deeds of hands that hear of one another now and then; all of them are ready, in the order they were done."""
+    chance = random.Random(seed)
+    clocks = [(0,) * hands for each in range(hands)]
+    deeds = []
+    for each in range(count):
+        hand = chance.randrange(hands)
+        if chance.random() < 0.4:
+            clocks[hand] = tuple(map(max, clocks[hand], chance.choice(clocks)))
+        clocks[hand] = replaced(clocks[hand], hand, clocks[hand][hand] + 1)
+        deeds.append((hand, clocks[hand], some_what(chance, hand, clocks[hand])))
+    return deeds
+
+
+def in_order(deeds):
+    """[14], told apart from the program."""
+    return sorted(deeds, key=lambda deed: (sum(deed[1]), deed[0]))
+
+
+def kinds_of(thing):
+    """The kinds of a thing and of all within it, so that True and 1, or a list and a tuple, are told apart."""
+    if isinstance(thing, (tuple, list)):
+        return (type(thing), [kinds_of(part) for part in thing])
+    return type(thing)
