@@ -40,8 +40,7 @@ def is_off(deed, turns):
 
 
 def played(ready):
-    # Words and steps come of one playing, so each deed is told as (name, word, step), the step None where none was
-    # taken.
+    # Words and steps come of one playing: each deed is told as (name, word, step), the step None where none was taken.
     turns = last_turns(ready)
     turning = [name_of(deed) for deed in ready if is_turn(deed)]
     outline = Plain()

@@ -19,6 +19,7 @@ NOTES = [
     ((0, (1, 0), ("put", None, (1, 2, -3, 0), "a")), "0 1,0 put top 1/2/-3/0 a"),
     ((0, (1,), ("put", None, (SIXTY, -SIXTY), "a")), "0 1 put top " + FIGURES + "/-" + FIGURES + " a"),
     ((0, (1,), ("put", None, (7,) * 64, "a")), "0 1 put top " + "/".join(["7"] * 64) + " a"),
+    ((0, (1,), ("put", None, (SIXTY,) * 64, "")), "0 1 put top " + "/".join([FIGURES] * 64) + " "),
     ((2, (4, 0, 1), ("move", (0, 4), (0, 3), (0,))), "2 4,0,1 move 0.4 0.3 0"),
     ((2, (4, 0, 1), ("move", (0, 4), None, (-10, 2))), "2 4,0,1 move 0.4 top -10/2"),
     ((0, (2,), ("write", (0, 1), "new ink")), "0 2 write 0.1 new ink"),
