@@ -3,7 +3,7 @@
 from limb.deeds import is_deed
 from limb.errors import NoText
 from limb.kinds import deed_parts, is_deed_word
-from limb.texts import is_figures
+from limb.texts import is_figures, written_numbers
 
 TRUTHS = {"yes": True, "no": False}
 
@@ -14,10 +14,6 @@ def written(deed):
     for kind, part in zip(deed_parts(what[0]), what[1:]):
         words.append(written_part(kind, part))
     return " ".join(words)
-
-
-def written_numbers(numbers, sign):
-    return sign.join([str(number) for number in numbers])
 
 
 def written_part(kind, part):

@@ -1,4 +1,4 @@
-"""Texts: which signs they are of, and which of them stand for whole numbers."""
+"""Texts: which signs they are of, and which of them stand for whole numbers and for items."""
 
 FIRST_SIGN = 32
 LAST_SIGN = 126
@@ -20,3 +20,17 @@ def is_figures(text):
     if not 1 <= len(text) <= MOST_FIGURES or not all([sign in FIGURES for sign in text]):
         return False
     return text == "0" or not text.startswith("0")
+
+
+def is_item_word(word):
+    halves = word.split(".")
+    return len(halves) == 2 and is_figures(halves[0]) and is_figures(halves[1]) and halves[1] != "0"
+
+
+def item_in(word):
+    halves = word.split(".")
+    return (int(halves[0]), int(halves[1]))
+
+
+def written_numbers(numbers, sign):
+    return sign.join([str(number) for number in numbers])

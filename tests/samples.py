@@ -67,12 +67,30 @@ def none_deed(hand, clock):
     return (hand, clock, ("none",))
 
 
-def some_what(chance, hand, clock):
-    """What a hand might do that knows of all that the clock tells (the deed itself with it)."""
-    known = [
-        (other, number) for other, count in enumerate(clock) for number in range(1, count + 1)
-        if (other, number) != (hand, clock[hand])
-    ]
+def by_one_hand(whats):
+    """Deeds of one hand, numbered from 1 on."""
+    return [(0, (number,), what) for number, what in enumerate(whats, start=1)]
+
+
+def by_turns(whats):
+    """Deeds of two hands, each of which has heard of all ahead of it; `whats` are tuples (hand, what)."""
+    clock, deeds = [0, 0], []
+    for hand, what in whats:
+        clock[hand] += 1
+        deeds.append((hand, tuple(clock), what))
+    return deeds
+
+
+def put(text="abc", up=None, place=(0,)):
+    return ("put", up, place, text)
+
+
+def names_in(clock):
+    return [(hand, number) for hand, count in enumerate(clock) for number in range(1, count + 1)]
+
+
+def some_what(chance, hand, clock, known):
+    """What a hand might do whose new deed has this clock; it names what is among the known."""
     place = tuple(chance.randint(-2, 2) for each in range(chance.randint(1, 2)))
     text = "".join(chance.choice("ab ") for each in range(chance.randint(0, 4)))
     if not known or chance.random() < 0.3:
@@ -90,8 +108,10 @@ def some_what(chance, hand, clock):
     return chance.choice(whats)
 
 
-def some_deeds(seed, hands, count):
-    """Deeds of hands that hear of one another now and then; all of them are ready, in the order they were done."""
+def some_deeds(seed, hands, count, busy=False):
+    """Deeds of hands that hear of one another now and then; all of them are ready, in the order they were done.
+
+    Busy hands keep to a few items, so that they often come upon one another."""
     chance = random.Random(seed)
     clocks = [(0,) * hands for each in range(hands)]
     deeds = []
@@ -99,8 +119,12 @@ def some_deeds(seed, hands, count):
         hand = chance.randrange(hands)
         if chance.random() < 0.4:
             clocks[hand] = tuple(map(max, clocks[hand], chance.choice(clocks)))
+        known = names_in(clocks[hand])
+        if busy:
+            known = [(other, clock[other]) for other, clock, what in deeds if what[0] in ("put", "part")]
+            known = [name for name in known if name in names_in(clocks[hand])][:6]
         clocks[hand] = replaced(clocks[hand], hand, clocks[hand][hand] + 1)
-        deeds.append((hand, clocks[hand], some_what(chance, hand, clocks[hand])))
+        deeds.append((hand, clocks[hand], some_what(chance, hand, clocks[hand], known)))
     return deeds
 
 
@@ -114,3 +138,32 @@ def kinds_of(thing):
     if isinstance(thing, (tuple, list)):
         return (type(thing), [kinds_of(part) for part in thing])
     return type(thing)
+
+
+def items_of(outline):
+    return {name: outline.item(name) for name in outline.names()}
+
+
+def all_of(outline):
+    """All that an outline tells of itself."""
+    return (
+        outline.names(), items_of(outline), outline.rows(), [outline.below(up) for up in [None] + outline.names()],
+        [outline.is_gone(name) for name in outline.names()],
+    )
+
+
+def check_lists(case, ask, handed):
+    """The list handed in stays; what is asked of it is a new list each time, and stays whatever is done to others."""
+    before = list(handed)
+    one, other = ask(handed), ask(handed)
+    case.assertEqual(handed, before)
+    case.assertIs(type(one), list)
+    case.assertEqual(one, other)
+    case.assertIsNot(one, other)
+    one.clear()
+    case.assertEqual(handed, before)
+    case.assertEqual(ask(handed), other)
+    kept = list(other)
+    handed.clear()
+    case.assertEqual(other, kept)
+    handed.extend(before)

@@ -5,25 +5,7 @@ from limb.deeds import is_deed, name_of
 from limb.folds import counting, steps_of, words_of
 from limb.orders import ready_of
 from limb.plain import Plain, lets_by
-from samples import in_order, some_deeds
-
-
-def by_one_hand(whats):
-    """Deeds of one hand, numbered from 1 on."""
-    return [(0, (number,), what) for number, what in enumerate(whats, start=1)]
-
-
-def by_turns(whats):
-    """Deeds of two hands, each of which has heard of all ahead of it; `whats` are tuples (hand, what)."""
-    clock, deeds = [0, 0], []
-    for hand, what in whats:
-        clock[hand] += 1
-        deeds.append((hand, tuple(clock), what))
-    return deeds
-
-
-def put(text="abc", up=None, place=(0,)):
-    return ("put", up, place, text)
+from samples import by_one_hand, by_turns, check_lists, in_order, put, some_deeds
 
 
 class Checked(unittest.TestCase):
@@ -268,20 +250,8 @@ class TestGivingWay(Checked):
 class TestLists(unittest.TestCase):
 
     def test_the_list_handed_in_stays_and_those_told_are_new(self):
-        ready = in_order(some_deeds(51, 3, 30))
-        handed = list(ready)
         for ask in [counting, words_of, steps_of]:
-            one, other = ask(handed), ask(handed)
-            self.assertEqual(handed, ready)
-            self.assertIs(type(one), list)
-            self.assertEqual(one, other)
-            self.assertIsNot(one, other)
-            one.clear()
-            self.assertEqual(ask(handed), other)
-        told = counting(handed), words_of(handed), steps_of(handed)
-        kept = [list(each) for each in told]
-        handed.clear()
-        self.assertEqual(list(told), kept)
+            check_lists(self, ask, in_order(some_deeds(51, 3, 30)))
 
     def test_counting_tells_another_list_when_all_count(self):
         ready = by_one_hand([put()])

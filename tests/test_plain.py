@@ -3,7 +3,7 @@ import unittest
 
 from limb.errors import Beneath, Far, LimbError, NoItem, Taken
 from limb.plain import Plain, lets_by
-from samples import SIXTY, kinds_of
+from samples import SIXTY, all_of, items_of, kinds_of
 
 A, B, C, D, E, F = (0, 1), (1, 1), (0, 2), (2, 5), (1, 2), (0, 9)
 NEW, LOST, GONE = (3, 3), (8, 8), (7, 7)
@@ -28,18 +28,6 @@ def outline_of(steps):
 
 def tree():
     return outline_of(TREE)
-
-
-def items_of(outline):
-    return {name: outline.item(name) for name in outline.names()}
-
-
-def all_of(outline):
-    """All that an outline tells of itself."""
-    return (
-        outline.names(), items_of(outline), outline.rows(), [outline.below(up) for up in [None] + outline.names()],
-        [outline.is_gone(name) for name in outline.names()],
-    )
 
 
 def names_in(rows):

@@ -1,6 +1,6 @@
 import unittest
 
-from limb.texts import is_figures, is_text
+from limb.texts import is_figures, is_item_word, is_text, item_in, written_numbers
 from samples import ODD_THINGS, SIXTY
 
 
@@ -41,6 +41,23 @@ class TestIsFigures(unittest.TestCase):
         ]:
             with self.subTest(text=text):
                 self.assertIs(is_figures(text), False)
+
+
+class TestItemWords(unittest.TestCase):
+
+    def test_items(self):
+        for name in [(0, 1), (7, 10), (100, 907), (SIXTY, SIXTY)]:
+            word = written_numbers(name, ".")
+            self.assertIs(is_item_word(word), True)
+            self.assertEqual(item_in(word), name)
+
+    def test_no_items(self):
+        for word in [
+            "", ".", "0", "0.", ".1", "0.0", "0.01", "00.1", "01.1", "0.1.1", "0.1.", ".0.1", "-1.1", "0.-1", "0,1",
+            "0.a", "a.1", "0. 1", " 0.1", "0.1 ", "1" * 61 + ".1", "1." + "1" * 61, "top",
+        ]:
+            with self.subTest(word=word):
+                self.assertIs(is_item_word(word), False)
 
 
 if __name__ == "__main__":
