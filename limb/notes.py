@@ -3,9 +3,7 @@
 from limb.deeds import is_deed
 from limb.errors import NoText
 from limb.kinds import deed_parts, is_deed_word
-from limb.texts import is_figures, written_numbers
-
-TRUTHS = {"yes": True, "no": False}
+from limb.texts import is_number_word, is_truth_word, parted, written_numbers
 
 
 def written(deed):
@@ -45,11 +43,9 @@ def words_in(text):
     words = text.split(" ")
     if len(words) < 3 or not is_deed_word(words[2]):
         raise NoText("no deed is written so")
-    kinds = deed_parts(words[2])
-    # A text stands last and has its own blanks, so it is not to be parted.
-    if "text" in kinds:
-        words = text.split(" ", 2 + len(kinds))
-    if len(words) != 3 + len(kinds):
+    kinds = ("hand", "clock", "word") + deed_parts(words[2])
+    words = parted(text, kinds)
+    if len(words) != len(kinds):
         raise NoText("something is missing behind the word, or too much stands there")
     return words
 
@@ -71,9 +67,9 @@ def read_part(kind, word):
 
 
 def read_truth(word):
-    if word not in TRUTHS:
+    if not is_truth_word(word):
         raise NoText("neither yes nor no")
-    return TRUTHS[word]
+    return word == "yes"
 
 
 def read_numbers(word, sign):
@@ -81,8 +77,6 @@ def read_numbers(word, sign):
 
 
 def read_number(word):
-    below = word.startswith("-")
-    figures = word[1:] if below else word
-    if not is_figures(figures) or word == "-0":
+    if not is_number_word(word):
         raise NoText("no whole number is written so")
-    return -int(figures) if below else int(figures)
+    return int(word)

@@ -1,4 +1,4 @@
-"""Texts: which signs they are of, and which of them stand for whole numbers and for items."""
+"""Texts: which signs they are of, and which of them stand for whole numbers, for items and for truths."""
 
 FIRST_SIGN = 32
 LAST_SIGN = 126
@@ -22,6 +22,15 @@ def is_figures(text):
     return text == "0" or not text.startswith("0")
 
 
+def is_number_word(word):
+    figures = word[1:] if word.startswith("-") else word
+    return is_figures(figures) and word != "-0"
+
+
+def is_truth_word(word):
+    return word in ("yes", "no")
+
+
 def is_item_word(word):
     halves = word.split(".")
     return len(halves) == 2 and is_figures(halves[0]) and is_figures(halves[1]) and halves[1] != "0"
@@ -30,6 +39,13 @@ def is_item_word(word):
 def item_in(word):
     halves = word.split(".")
     return (int(halves[0]), int(halves[1]))
+
+
+def parted(text, kinds):
+    # A part of the kind `text` stands last and has its own blanks, so it is not to be parted.
+    if kinds[-1] == "text":
+        return text.split(" ", len(kinds) - 1)
+    return text.split(" ")
 
 
 def written_numbers(numbers, sign):

@@ -167,3 +167,42 @@ def check_lists(case, ask, handed):
     handed.clear()
     case.assertEqual(other, kept)
     handed.extend(before)
+
+
+def row(depth, number, text="", done=False, whom=None, folded=False):
+    return (depth, (0, number), text, done, whom, folded)
+
+
+def some_rows(chance, count):
+    """Rows such as a plain outline tells."""
+    rows, depth = [], -1
+    for number in chance.sample(range(1, count + 1), count):
+        depth = chance.randint(max(depth - 3, 0), depth + 1)
+        rows.append(row(
+            depth, number, "".join(chance.choice("abAB ") for each in range(chance.randint(0, 3))),
+            chance.random() < 0.5, chance.choice([None, 0, 1, 2, 10]), chance.random() < 0.3,
+        ))
+    return rows
+
+
+def after_changes(case, rows, changes):
+    """The rows when all changes are done, each of which must be one that [34] tells, its number being there."""
+    rows = list(rows)
+    for change in changes:
+        case.assertIn(change[0], ["cut", "put"])
+        case.assertEqual(len(change), 2 if change[0] == "cut" else 3)
+        case.assertIn(change[1], range(len(rows) + (change[0] == "put")))
+        if change[0] == "cut":
+            rows.pop(change[1])
+        else:
+            rows.insert(change[1], change[2])
+    return rows
+
+
+def fewest(old, new):
+    """How many changes are as few as can be: all rows of both lists, less twice the most that stay in their order."""
+    table = [[0] * (len(new) + 1) for each in range(len(old) + 1)]
+    for at, one in enumerate(old):
+        for to, other in enumerate(new):
+            table[at + 1][to + 1] = table[at][to] + 1 if one == other else max(table[at][to + 1], table[at + 1][to])
+    return len(old) + len(new) - 2 * table[-1][-1]

@@ -3,14 +3,9 @@ import unittest
 
 from limb.answers import asked, fitting
 from limb.questions import read_question
-from samples import SIXTY, check_lists
+from samples import SIXTY, check_lists, row, some_rows
 
 ALL, DONE, FOLDED, FREE, LEAF, SEEN = ("all",), ("done",), ("folded",), ("free",), ("leaf",), ("seen",)
-
-
-def row(depth, number, text="", done=False, whom=None, folded=False):
-    return (depth, (0, number), text, done, whom, folded)
-
 
 ROWS = [
     row(0, 1, "ink", True, 1),
@@ -24,18 +19,6 @@ ROWS = [
     row(0, 9, "pen", True, 10, True),
     row(1, 10, "pens", False, 2),
 ]
-
-
-def some_rows(chance, count):
-    """Rows such as a plain outline tells."""
-    rows, depth = [], -1
-    for number in chance.sample(range(1, count + 1), count):
-        depth = chance.randint(max(depth - 3, 0), depth + 1)
-        rows.append(row(
-            depth, number, "".join(chance.choice("abAB ") for each in range(chance.randint(0, 3))),
-            chance.random() < 0.5, chance.choice([None, 0, 1, 2, 10]), chance.random() < 0.3,
-        ))
-    return rows
 
 
 class TestFitting(unittest.TestCase):

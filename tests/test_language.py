@@ -42,6 +42,14 @@ methodcaller os quit setattr super type vars sys format format_map
 """.split()
 
 
+KEYWORDS = {
+    "sorted": ["key", "reverse"], "min": ["key", "default"], "max": ["key", "default"], "sum": ["start"],
+    "enumerate": ["start"], "zip": ["strict"],
+}
+WALKED = ["zip", "enumerate", "reversed", "range", "items", "keys", "values"]
+WALKERS = ["list", "tuple", "dict", "sorted", "sum", "any", "all", "enumerate", "zip"]
+
+
 def package_files():
     return sorted(path for path in PACKAGE.rglob("*") if "__pycache__" not in path.parts)
 
@@ -88,6 +96,10 @@ def stored_values():
     return [node.attr for node in nodes if isinstance(node, ast.Attribute) and isinstance(node.ctx, ast.Store)]
 
 
+def called_name(node):
+    return node.func.id if isinstance(node.func, ast.Name) else node.func.attr
+
+
 def on_each_file(check):
     def run(self):
         for path in package_files():
@@ -129,6 +141,9 @@ class TestLanguage(unittest.TestCase):
             if isinstance(node, ast.Constant):
                 self.assertIsInstance(node.value, (int, str, type(None)))
                 self.assertNotIn(chr(37), str(node.value))
+            if isinstance(node, ast.FormattedValue):
+                self.assertIsInstance(node.value, ast.Name)
+                self.assertIsNone(node.format_spec)
             if isinstance(node, ast.Assign):
                 self.assertEqual(len(node.targets), 1)
             if isinstance(node, (ast.For, ast.While)):
@@ -227,6 +242,39 @@ class TestLanguage(unittest.TestCase):
                 if node.value.id in kept:
                     self.assertIsInstance(node.ctx, ast.Load)
                     self.assertIn(getattr(node, "attr", "get"), ["get", "items", "keys", "values"])
+
+    @on_each_file
+    def test_what_is_walked_is_walked_at_once(self, path):
+        nodes = walk_of(path)
+        walked = [node.iter for node in nodes if isinstance(node, (ast.For, ast.comprehension))]
+        for node in nodes:
+            if isinstance(node, ast.Call) and isinstance(node.func, ast.Name) and node.args:
+                if node.func.id in WALKERS or node.func.id in ("min", "max") and len(node.args) == 1:
+                    walked.append(node.args[0])
+        for node in nodes:
+            if isinstance(node, ast.Call) and called_name(node) in WALKED:
+                self.assertIn(node, walked, node.lineno)
+
+    @on_each_file
+    def test_methods_are_called_where_they_stand(self, path):
+        nodes = walk_of(path)
+        called = [node.func for node in nodes if isinstance(node, ast.Call)]
+        for node in nodes:
+            if isinstance(node, ast.Attribute) and node.attr in METHODS + methods_of_classes():
+                self.assertIn(node, called, node.lineno)
+
+    @on_each_file
+    def test_keywords(self, path):
+        for node in walk_of(path):
+            if isinstance(node, ast.Call):
+                for keyword in node.keywords:
+                    self.assertIn(keyword.arg, KEYWORDS.get(called_name(node), []), node.lineno)
+
+    @on_each_file
+    def test_no_annotations(self, path):
+        for node in walk_of(path):
+            self.assertIsNone(getattr(node, "annotation", None))
+            self.assertIsNone(getattr(node, "returns", None))
 
     @on_each_file
     def test_is_stands_beside_none_and_truths(self, path):
