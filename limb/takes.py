@@ -9,12 +9,12 @@ from limb.plain import Plain
 def takings_of(ready):
     words = dict(words_of(ready))
     whole = stepped([step for name, step in steps_of(ready)])
-    taken = [deed for deed in ready if words[name_of(deed)] in ("done", "top")]
+    lasting = [deed for deed in ready if words[name_of(deed)] in ("done", "top")]
     takings = []
-    for deed in taken:
+    for deed in lasting:
         if deed[2][0] in ("take", "join"):
             item = taken_item(deed)
-            takings.append((name_of(deed), item, first_gainsayer(deed, item, taken, whole)))
+            takings.append((name_of(deed), item, first_gainsayer(deed, item, lasting, whole)))
     return takings
 
 
@@ -29,8 +29,8 @@ def taken_item(deed):
     return deed[2][1] if deed[2][0] == "take" else deed[2][2]
 
 
-def first_gainsayer(taking, item, taken, whole):
-    for deed in taken:
+def first_gainsayer(taking, item, lasting, whole):
+    for deed in lasting:
         if gainsays(deed, taking, item, whole):
             return name_of(deed)
     return None
@@ -56,31 +56,31 @@ def touched_by(deed):
 
 
 def report_of(ready):
+    words = words_of(ready)
     turns = last_turns(ready)
     kept = dict([(name, by) for name, item, by in takings_of(ready) if by is not None])
-    words = words_of(ready)
-    done = [deed for deed, named in zip(ready, words) if named[1] == "done"]
+    over = overs_of([deed for deed, named in zip(ready, words) if named[1] == "done"])
     report = []
-    for deed, named in zip(ready, words):
-        name = named[0]
-        if named[1] == "off":
+    for name, word in words:
+        if word == "off":
             report.append((name, "off", name_of(turns[name])))
         elif name in kept:
             report.append((name, "kept", kept[name]))
+        elif name in over:
+            report.append((name, "over", over[name]))
         else:
-            over = first_over(deed, done) if named[1] == "done" else None
-            report.append((name, named[1] if over is None else "over", over))
+            report.append((name, word, None))
     return report
 
 
-def first_over(deed, done):
-    # A deed that stands ahead of this one in their order is not over it, so what is asked begins behind it.
-    if deed[2][0] not in ("move", "write", "mark", "due", "fold"):
-        return None
-    for later in done[done.index(deed) + 1:]:
-        if later[2][:2] == deed[2][:2] and apart(later, deed):
-            return name_of(later)
-    return None
+def overs_of(done):
+    overs = {}
+    for at, deed in enumerate(done):
+        if deed[2][0] in ("move", "write", "mark", "due", "fold"):
+            later = [each for each in done[at + 1:] if each[2][:2] == deed[2][:2] and apart(each, deed)]
+            if len(later) > 0:
+                overs[name_of(deed)] = name_of(later[0])
+    return overs
 
 
 def history_of(ready):
